@@ -1,0 +1,1 @@
+"""Cisternyard: tanks on a slope, rain, and what can be drawn."""
