@@ -104,6 +104,38 @@ def faults_of_node(node):
             yield "a function of more than 40 lines"
 
 
+def imports_of(tree):
+    """The imported names, each with the file that it comes from."""
+    rows = [node for node in tree.body if isinstance(node, ast.ImportFrom)]
+    return {name.asname or name.name: row.module.partition(".")[2] for row in rows for name in row.names}
+
+
+def defined_in(tree):
+    found = {node.name for node in tree.body if isinstance(node, (ast.FunctionDef, ast.ClassDef))}
+    return found | {name.id for node in tree.body if isinstance(node, ast.Assign) for name in node.targets}
+
+
+def faults_of_locals(tree):
+    classes = {node.name for node in tree.body if isinstance(node, ast.ClassDef)}
+    for function in ast.walk(tree):
+        if isinstance(function, ast.FunctionDef):
+            named = {name for name in bound_names(function) if name != function.name}
+            for name in sorted(named & (classes | set(imports_of(tree)))):
+                yield f"{name} given another meaning"
+
+
+def files_drawn_from(drawn, name):
+    """The files from which this one draws, in whatever many steps."""
+    found = set()
+    ahead = list(drawn[name])
+    while ahead:
+        other = ahead.pop()
+        if other not in found:
+            found.add(other)
+            ahead.extend(drawn[other])
+    return found
+
+
 def methods_of(trees):
     classes = [node for tree in trees for node in ast.walk(tree) if isinstance(node, ast.ClassDef)]
     return {row.name for node in classes for row in node.body if isinstance(row, ast.FunctionDef)}
@@ -112,6 +144,7 @@ def methods_of(trees):
 def faults(text, methods=frozenset()):
     tree = ast.parse(text)
     found = list(faults_of_text(text)) + list(faults_of_top(tree)) + list(faults_of_names(tree, methods))
+    found.extend(faults_of_locals(tree))
     for node in ast.walk(tree):
         found.extend(faults_of_node(node))
     return found
@@ -126,6 +159,20 @@ class Language(unittest.TestCase):
             with self.subTest(file=name):
                 self.assertEqual(faults(text, methods), [])
 
+    def test_imports_come_from_where_the_name_is_defined_and_go_in_no_ring(self):
+        trees = {path.stem: ast.parse(path.read_text(encoding="utf-8")) for path in PACKAGE.glob("*.py")}
+        drawn = {name: sorted(set(imports_of(tree).values())) for name, tree in trees.items()}
+        for name, tree in trees.items():
+            with self.subTest(file=name):
+                self.assertNotIn(name, files_drawn_from(drawn, name))
+                for imported, origin in imports_of(tree).items():
+                    self.assertIn(imported, defined_in(trees[origin]))
+
+    def test_the_check_sees_a_ring_of_imports(self):
+        drawn = {"a": ["b"], "b": ["c"], "c": ["b"]}
+        self.assertEqual(files_drawn_from(drawn, "a"), {"b", "c"})
+        self.assertIn("b", files_drawn_from(drawn, "b"))
+
     def test_nothing_else_lies_in_the_package(self):
         for path in PACKAGE.iterdir():
             if path.name != "__pycache__":
@@ -139,6 +186,8 @@ class Language(unittest.TestCase):
             "class A:\n    x = 1", "def f():\n" + "    pass\n" * 40, "x = 1\n" * 401, "# " + "x" * 120,
             "# a type", "\tx = 1".strip() + "\t", "def f(x):\n    return hash(x)", "for x in (1, 2):\n    pass",
             "def f(x):\n    for y in x:\n        pass\n    else:\n        pass",
+            "from cisternyard.plans import most\n\ndef f(most):\n    return most",
+            "class A:\n    pass\n\ndef f():\n    A = 1\n    return A",
         )
         for text in outside:
             with self.subTest(text=text):
